@@ -1,0 +1,1 @@
+"""Markrounds: maps made of roundings up and down."""

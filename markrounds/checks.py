@@ -1,0 +1,20 @@
+"""Checks that several modules share."""
+
+from markrounds.errors import OtherRow
+
+
+def is_integer(value):
+    """Tell whether the value is an integer."""
+    # True and False are ints for isinstance; here they are not.
+    return type(value) is int
+
+
+def is_within(value, low, high):
+    """Tell whether the value is an integer from low to high."""
+    return is_integer(value) and low <= value <= high
+
+
+def check_same_row(one, other):
+    """Raise OtherRow with the other one if the last places differ."""
+    if one.last != other.last:
+        raise OtherRow(other)
