@@ -1,4 +1,4 @@
-"""Checks that several modules share."""
+"""Checks and bounds that several modules share."""
 
 from markrounds.errors import OtherRow
 
@@ -11,7 +11,16 @@ def is_integer(value):
 
 def is_within(value, low, high):
     """Tell whether the value is an integer from low to high."""
-    return is_integer(value) and low <= value <= high
+    return type(value) is int and low <= value <= high
+
+
+def held_within(value, low, high):
+    """Return the integer from low to high that is nearest to the value."""
+    if value < low:
+        return low
+    if value > high:
+        return high
+    return value
 
 
 def check_same_row(one, other):

@@ -1,6 +1,6 @@
 """Maps of a row that keep the order of its places."""
 
-from markrounds.checks import check_same_row, is_integer, is_within
+from markrounds.checks import check_same_row, held_within, is_integer, is_within
 from markrounds.errors import InvalidMap, InvalidNumber, InvalidPlace
 from markrounds.rulers import Ruler, is_last
 
@@ -46,7 +46,7 @@ class RowMap:
         _check_last(last)
         if not is_integer(by):
             raise InvalidNumber(by)
-        values = [_held_in_row(place + by, last) for place in range(last + 1)]
+        values = [held_within(place + by, 0, last) for place in range(last + 1)]
         return cls(*values)
 
     @property
@@ -86,10 +86,10 @@ class RowMap:
         return RowMap(*values)
 
     def __call__(self, place):
-        return _value_at(self._images, place)
+        return value_at(self._images, place)
 
     def __getitem__(self, place):
-        return _value_at(self._images, place)
+        return value_at(self._images, place)
 
     # Without this, Python would iterate by [ ] and stop at an InvalidPlace.
     def __iter__(self):
@@ -159,15 +159,8 @@ def _wrong_value(values):
     return None
 
 
-def _held_in_row(place, last):
-    if place < 0:
-        return 0
-    if place > last:
-        return last
-    return place
-
-
-def _value_at(images, place):
+def value_at(images, place):
+    """Return the value of a place; raise InvalidPlace for any other value."""
     if not is_within(place, 0, len(images) - 1):
         raise InvalidPlace(place)
     return images[place]

@@ -106,7 +106,7 @@ class OperatorsTest(QuickCase):
 
     def test_foreign_values(self):
         f = RowMap(0, 0, 2)
-        for value in foreign_values() + [Ruler(2, 0, 2), (0, 0, 2), [0, 0, 2]]:
+        for value in foreign_values(RowMap) + [Ruler(2, 0, 2), (0, 0, 2), [0, 0, 2]]:
             for call in MAKING + ORDER + TURNED_ORDER:
                 self.caught(TypeError, call, f, value)
                 if not isinstance(value, (Agreeable, Touchy)):

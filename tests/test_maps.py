@@ -238,7 +238,7 @@ class ReadingTest(QuickCase):
 
     def test_foreign_values_are_not_equal(self):
         f = RowMap(0, 0, 3, 3)
-        for value in foreign_values():
+        for value in foreign_values(RowMap):
             self.assertIs(f == value, False)
             self.assertIs(f != value, True)
         for value in ((0, 0, 3, 3), [0, 0, 3, 3], 4):

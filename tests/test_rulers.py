@@ -16,10 +16,6 @@ ORDER = (operator.le, operator.lt)
 TURNED_ORDER = (operator.ge, operator.gt)
 
 
-def all_rulers(last):
-    return [Ruler(last, *marks) for marks in all_mark_tuples(last)]
-
-
 class CreationTest(QuickCase):
 
     def test_the_class_value(self):
@@ -149,7 +145,7 @@ class ReadingTest(QuickCase):
 
     def test_foreign_values_are_not_equal(self):
         ruler = Ruler(2, 0, 2)
-        for value in foreign_values():
+        for value in foreign_values(Ruler):
             self.assertIs(ruler == value, False)
             self.assertIs(ruler != value, True)
         for value in ((0, 2), [0, 2], (2, (0, 2)), 2):
@@ -226,6 +222,38 @@ class OperatorsTest(QuickCase):
             pair = [tuple(sorted(draw.sample(range(21), draw.randint(1, 21)))) for _ in range(2)]
             self.check_pair(20, pair[0], pair[1])
 
+    def check_same(self, ruler, wanted):
+        """Two equal rulers answer alike, whichever way they were made, and whatever is asked first."""
+        self.assertTrue(ruler == wanted and wanted == ruler and ruler <= wanted and wanted <= ruler)
+        self.assertFalse(ruler != wanted or ruler < wanted or wanted < ruler)
+        self.assertTrue(-ruler == -wanted)
+        self.assertEqual([place in ruler for place in range(-1, 23)], [place in wanted for place in range(-1, 23)])
+        self.assertEqual((len(ruler), ruler[0], ruler[len(ruler) - 1]), (len(wanted), wanted[0], wanted[len(wanted) - 1]))
+        self.assertEqual((ruler.last, ruler.marks, ruler.places), (wanted.last, wanted.marks, wanted.places))
+        self.assertEqual((type(ruler.marks), {type(mark) for mark in ruler.marks}), (tuple, {int}))
+        self.caught(InvalidNumber, operator.getitem, ruler, len(ruler))
+
+    def test_rulers_that_are_put_together_one_mark_after_the_other(self):
+        for last in (1, 2, 10, 20):
+            ruler = Ruler(last, 0)
+            for mark in range(1, last + 1):
+                ruler = ruler | Ruler(last, mark)
+                self.check_same(ruler, Ruler(last, *range(mark + 1)))
+            for mark in range(last):
+                ruler = ruler - Ruler(last, mark)
+                self.check_same(ruler, Ruler(last, *range(mark + 1, last + 1)))
+            self.caught(EmptyRuler, operator.sub, ruler, ruler)
+
+    def test_results_of_operators_are_rulers_like_others(self):
+        for marks, other_marks in itertools.product(all_mark_tuples(3), repeat=2):
+            ruler, other = Ruler(3, *marks), Ruler(3, *other_marks)
+            self.check_same(ruler | other, Ruler(3, *marks, *other_marks))
+            if set(marks) & set(other_marks):
+                self.check_same(ruler & other, Ruler(3, *(set(marks) & set(other_marks))))
+            if set(marks) - set(other_marks):
+                self.check_same(ruler - other, Ruler(3, *(set(marks) - set(other_marks))))
+            self.check_same(ruler, Ruler(3, *marks))
+
     def test_marks_of_each_operator(self):
         r, s = Ruler(9, 1, 3, 5, 9), Ruler(9, 0, 3, 9)
         self.assertEqual((r | s).marks, (0, 1, 3, 5, 9))
@@ -273,7 +301,7 @@ class OperatorsTest(QuickCase):
 
     def test_foreign_values(self):
         ruler = Ruler(2, 0, 2)
-        for value in foreign_values():
+        for value in foreign_values(Ruler):
             for call in MAKING + ORDER + TURNED_ORDER:
                 self.caught(TypeError, call, ruler, value)
                 if not isinstance(value, (Agreeable, Touchy)):

@@ -2,10 +2,13 @@
 
 import faulthandler
 import itertools
+import random
 import unittest
 
 from markrounds.maps import RowMap
+from markrounds.roundings import DownRounding, UpRounding
 from markrounds.rulers import Ruler
+from markrounds.words import Filler
 
 HUGE = 10 ** 999 + 7
 
@@ -116,6 +119,7 @@ def no_integers():
         own_function, lambda: 1, len, [].append,
         slice(0, 1), NotImplemented, ...,
         Ruler(1, 0), Ruler(3, 1, 3), RowMap(0, 1), RowMap(0, 0, 3, 3), Ruler, RowMap,
+        UpRounding(Ruler(1, 1)), DownRounding(Ruler(3, 0, 3)), UpRounding, Filler("ud"), Filler,
         nested(99), nested_in_lists(99), nested_in_dicts(99),
         shared_parts(50), shared_parts(98), shared_parts_in_lists(60),
         (shared_parts(45), 1), {"a": shared_parts(45)},
@@ -127,15 +131,34 @@ def wrong_integers(low, high):
     return no_integers() + [low - 1, high + 1, low - 2, high + 2, -1000, 1000, -HUGE, HUGE, 2 ** 64, -2 ** 64]
 
 
-def foreign_values():
-    """Values that are neither rulers nor maps."""
-    own = (Ruler, RowMap)
-    return [value for value in no_integers() if type(value) not in own] + [-1, 0, 1, 2, HUGE, -HUGE]
+def values_of_every_kind():
+    return no_integers() + [-1, 0, 1, 2, HUGE, -HUGE]
+
+
+def no_texts():
+    return [value for value in values_of_every_kind() if type(value) is not str]
+
+
+def foreign_values(*own):
+    """Values of every kind that are not of these own classes."""
+    return [value for value in values_of_every_kind() if type(value) not in own]
 
 
 def all_mark_tuples(last):
     places = range(last + 1)
     return [marks for many in range(1, last + 2) for marks in itertools.combinations(places, many)]
+
+
+def all_rulers(last):
+    return [Ruler(last, *marks) for marks in all_mark_tuples(last)]
+
+
+def all_up_roundings(last):
+    return [UpRounding(ruler) for ruler in all_rulers(last) if last in ruler]
+
+
+def all_down_roundings(last):
+    return [DownRounding(ruler) for ruler in all_rulers(last) if 0 in ruler]
 
 
 def all_images(last):
@@ -144,3 +167,12 @@ def all_images(last):
 
 def all_row_maps(last):
     return [RowMap(*images) for images in all_images(last)]
+
+
+def some_row_maps(last, many, seed):
+    """Maps of a long row: drawn ones, steep ones, and all shifts."""
+    draw = random.Random(seed)
+    drawn = [RowMap(*sorted(draw.choices(range(last + 1), k=last + 1))) for _ in range(many)]
+    steps = [RowMap(*sorted(draw.choices(range(last // 2, last + 1), k=last + 1))) for _ in range(many // 4)]
+    shifts = [RowMap.shift(last, by) for by in range(-last, last + 1)]
+    return drawn + steps + [-f for f in steps] + shifts

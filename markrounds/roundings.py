@@ -1,0 +1,142 @@
+"""Roundings: every place of a row moves up, or down, to the next mark."""
+
+from markrounds.errors import InvalidNumber, MissingMark, OtherRow
+from markrounds.maps import RowMap, value_at
+from markrounds.rulers import is_last
+
+
+class Rounding:
+    """What roundings of both kinds can do. It is never created itself."""
+
+    @property
+    def ruler(self):
+        """The ruler of the rounding."""
+        raise NotImplementedError("a rounding goes up or down")
+
+    def as_map(self):
+        """Return the rounding as a map."""
+        raise NotImplementedError("a rounding goes up or down")
+
+    def __call__(self, place):
+        raise NotImplementedError("a rounding goes up or down")
+
+    def __eq__(self, other):
+        raise NotImplementedError("a rounding goes up or down")
+
+    def __neg__(self):
+        raise NotImplementedError("a rounding goes up or down")
+
+    def __add__(self, other):
+        raise NotImplementedError("a rounding goes up or down")
+
+
+# Each class of the interface has all its methods in its own body, so the two
+# kinds repeat those that are alike; what the methods do stands in functions.
+class UpRounding(Rounding):
+    """Moves every place to its least mark that is not below it. It never changes."""
+
+    LETTER = "u"
+
+    def __init__(self, ruler):
+        if ruler.last not in ruler:
+            raise MissingMark(ruler.last)
+        self._ruler = ruler
+        self._images = _images_up(ruler.marks)
+
+    @property
+    def ruler(self):
+        """The ruler of the rounding."""
+        return self._ruler
+
+    def as_map(self):
+        """Return the rounding as a map."""
+        return RowMap(*self._images)
+
+    def __call__(self, place):
+        return value_at(self._images, place)
+
+    def __eq__(self, other):
+        return type(self) is type(other) and self._ruler == other._ruler
+
+    def __neg__(self):
+        return DownRounding(-self._ruler)
+
+    def __add__(self, other):
+        return _sum_of(self, other)
+
+
+class DownRounding(Rounding):
+    """Moves every place to its greatest mark that is not above it. It never changes."""
+
+    LETTER = "d"
+
+    def __init__(self, ruler):
+        if 0 not in ruler:
+            raise MissingMark(0)
+        self._ruler = ruler
+        self._images = _images_down(ruler.marks, ruler.last)
+
+    @property
+    def ruler(self):
+        """The ruler of the rounding."""
+        return self._ruler
+
+    def as_map(self):
+        """Return the rounding as a map."""
+        return RowMap(*self._images)
+
+    def __call__(self, place):
+        return value_at(self._images, place)
+
+    def __eq__(self, other):
+        return type(self) is type(other) and self._ruler == other._ruler
+
+    def __neg__(self):
+        return UpRounding(-self._ruler)
+
+    def __add__(self, other):
+        return _sum_of(self, other)
+
+
+def made(last, *roundings):
+    """Return the map that the roundings make one after the other."""
+    if not is_last(last):
+        raise InvalidNumber(last)
+    for rounding in roundings:
+        if rounding.ruler.last != last:
+            raise OtherRow(rounding)
+    values = list(range(last + 1))
+    for rounding in roundings:
+        images = rounding._images
+        values = [images[value] for value in values]
+    return RowMap(*values)
+
+
+def word_of(roundings):
+    """Return the letters of the roundings of a list or tuple."""
+    return "".join([rounding.LETTER for rounding in roundings])
+
+
+def _images_up(marks):
+    images = []
+    for mark in marks:
+        images.extend([mark] * (mark + 1 - len(images)))
+    return images
+
+
+def _images_down(marks, last):
+    images = []
+    ends = marks[1:] + (last + 1,)
+    for mark, end in zip(marks, ends):
+        images.extend([mark] * (end - mark))
+    return images
+
+
+def _sum_of(first, second):
+    # Raised here, not left to Python: the value could answer for itself then.
+    if not isinstance(second, Rounding):
+        raise TypeError("the operator is described for two roundings only")
+    if first.ruler.last != second.ruler.last:
+        raise OtherRow(second)
+    values = [second._images[value] for value in first._images]
+    return RowMap(*values)
