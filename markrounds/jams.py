@@ -18,7 +18,7 @@ def downs(f):
 
 def needed(f):
     """Return how many up-roundings and down-roundings are needed at least."""
-    return ups(f), downs(f)
+    return longest_lengths(f.classes)
 
 
 def up_jam(f):
@@ -44,6 +44,13 @@ def check_jam(f, answer):
     if not is_within(length, 1, _greatest_length(kind, number, classes)):
         raise InvalidAnswer("length")
     return length
+
+
+def longest_lengths(classes):
+    """Return the lengths of the longest up-jam and the longest down-jam, 0 if there is none."""
+    _, length_up = _longest("up", classes)
+    _, length_down = _longest("down", classes)
+    return length_up, length_down
 
 
 def _is_kind(value):

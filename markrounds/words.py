@@ -24,7 +24,7 @@ class Filler:
     def __call__(self, f):
         _check_enough("u", self._letters, up_jam(f))
         _check_enough("d", self._letters, down_jam(f))
-        return _filling(self._letters, f)
+        return filling(self._letters, f.last, f.classes)
 
 
 def fewest_word(f):
@@ -48,8 +48,12 @@ def _check_enough(letter, letters, jam):
         raise TooFew(jam)
 
 
-def _filling(letters, f):
-    classes = f.classes
+def filling(letters, last, classes):
+    """Return roundings with these letters that lead all places of each class to its value.
+
+    A class is the triple of its least place, its greatest place and its value;
+    the classes are ascending, and some places may be of no class.
+    """
     many_up, many_down = 0, 0
     roundings = []
     for letter in letters:
@@ -58,12 +62,12 @@ def _filling(letters, f):
         else:
             many_down += 1
         places = _places_after(many_up, many_down, classes)
-        roundings.append(_rounding(letter, f.last, places))
+        roundings.append(_rounding(letter, last, places))
     return tuple(roundings)
 
 
 def _places_after(many_up, many_down, classes):
-    """Return where the places of the row stand after so many letters."""
+    """Return where the places of the classes stand after so many letters."""
     places = []
     for number, (least, greatest, value) in enumerate(classes):
         top = _top(number, many_up, classes)

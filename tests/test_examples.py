@@ -2,7 +2,10 @@
 
 import unittest
 
+from markrounds.bridges import bridge, needed_between, shortened, single_rounding
+from markrounds.fillings import count_fillings, fillings
 from markrounds.jams import check_jam, needed, up_jam
+from markrounds.listing import all_maps, count_maps, map_by_rank, needs_table, rank_of_map
 from markrounds.maps import RowMap
 from markrounds.roundings import DownRounding, UpRounding, made, word_of
 from markrounds.rulers import Ruler
@@ -41,3 +44,24 @@ class ExamplesTest(unittest.TestCase):
         self.assertEqual(
             (fewest_word(f), word_of(some), made(3, some[0], some[1]) == f),
             ("ud", "du", True))
+
+    def test_listing(self):
+        self.assertEqual(
+            (count_maps(2), rank_of_map(RowMap(1, 2, 2)), map_by_rank(2, 1).images, [f.images for f in all_maps(1)],
+             needs_table(1)),
+            (10, 8, (0, 0, 1), [(0, 0), (0, 1), (1, 1)], ((1, 1), (1, 0))))
+
+    def test_fillings(self):
+        f = RowMap(0, 0, 3, 3)
+        some = list(fillings(f, "ud"))
+        self.assertEqual(
+            (count_fillings(f, "ud"), [rounding.ruler.marks for rounding in some[0]], count_fillings(f, "u")),
+            (4, [(0, 1, 3), (0, 2, 3)], 0))
+
+    def test_bridges(self):
+        f, g = RowMap(0, 0, 3, 3), RowMap(1, 1, 3, 3)
+        steps = bridge(f, g, "u")
+        self.assertEqual(
+            (needed_between(f, g), (f + steps[0].as_map()) == g, single_rounding(f),
+             single_rounding(RowMap(1, 1, 3, 3)).LETTER, len(shortened(3, steps[0], steps[0]))),
+            ((1, 0), True, None, "u", 1))
