@@ -100,11 +100,7 @@ class DownRounding(Rounding):
 
 def made(last, *roundings):
     """Return the map that the roundings make one after the other."""
-    if not is_last(last):
-        raise InvalidNumber(last)
-    for rounding in roundings:
-        if rounding.ruler.last != last:
-            raise OtherRow(rounding)
+    check_roundings(last, roundings)
     values = list(range(last + 1))
     for rounding in roundings:
         images = rounding._images
@@ -115,6 +111,15 @@ def made(last, *roundings):
 def word_of(roundings):
     """Return the letters of the roundings of a list or tuple."""
     return "".join([rounding.LETTER for rounding in roundings])
+
+
+def check_roundings(last, roundings):
+    """Raise InvalidNumber for a wrong last place, OtherRow for a rounding of another row."""
+    if not is_last(last):
+        raise InvalidNumber(last)
+    for rounding in roundings:
+        if rounding.ruler.last != last:
+            raise OtherRow(rounding)
 
 
 def _images_up(marks):

@@ -11,8 +11,8 @@ from markrounds.maps import RowMap
 from markrounds.roundings import DownRounding, UpRounding, made, word_of
 from markrounds.rulers import Ruler
 from values import (
-    QuickCase, all_down_roundings, all_row_maps, all_up_roundings, no_texts, shared_parts, some_row_maps,
-    wrong_integers,
+    QuickCase, all_down_roundings, all_row_maps, all_up_roundings, drawn_roundings, no_texts, shared_parts,
+    some_row_maps, wrong_integers,
 )
 
 KINDS = {"u": UpRounding, "d": DownRounding}
@@ -140,16 +140,9 @@ class ShortenedTest(QuickCase):
             self.assertEqual(shortened(last=last), ())
 
     def test_several_roundings_of_long_rows(self):
-        draw = random.Random(8)
         for last in (5, 11, 20):
             for many in (3, 8, 20, 100):
-                roundings = []
-                for _ in range(many):
-                    marks = draw.sample(range(last + 1), draw.randint(last // 2, last))
-                    up = draw.random() < 0.5
-                    roundings.append(UpRounding(Ruler(last, last, *marks)) if up
-                                     else DownRounding(Ruler(last, 0, *marks)))
-                self.check_roundings(last, roundings)
+                self.check_roundings(last, drawn_roundings(last, many, many))
 
     def test_roundings_that_move_nothing(self):
         full = Ruler.full(4)

@@ -3,12 +3,16 @@
 import unittest
 
 from markrounds.bridges import bridge, needed_between, shortened, single_rounding
+from markrounds.console import Console
 from markrounds.fillings import count_fillings, fillings
 from markrounds.jams import check_jam, needed, up_jam
 from markrounds.listing import all_maps, count_maps, map_by_rank, needs_table, rank_of_map
+from markrounds.live import GoalRow
 from markrounds.maps import RowMap
 from markrounds.roundings import DownRounding, UpRounding, made, word_of
 from markrounds.rulers import Ruler
+from markrounds.tables import map_table, steps_table
+from markrounds.texts import roundings_text
 from markrounds.words import Filler, fewest_word
 
 
@@ -65,3 +69,28 @@ class ExamplesTest(unittest.TestCase):
             (needed_between(f, g), (f + steps[0].as_map()) == g, single_rounding(f),
              single_rounding(RowMap(1, 1, 3, 3)).LETTER, len(shortened(3, steps[0], steps[0]))),
             ((1, 0), True, None, "u", 1))
+
+    def test_live(self):
+        row = GoalRow(RowMap(0, 0, 3, 3))
+        before = row.left
+        row.do(UpRounding(Ruler(3, 0, 1, 3)))
+        self.assertEqual(
+            (before, row.left, row(2), row.letters, row.would(DownRounding(Ruler(3, 0, 3))).images),
+            ((1, 1), (0, 1), 3, "u", (0, 0, 3, 3)))
+
+    def test_tables(self):
+        some = (UpRounding(Ruler(3, 0, 1, 3)), DownRounding(Ruler(3, 0, 3)))
+        self.assertEqual(
+            (map_table(RowMap(0, 0, 3, 3)), steps_table(3, some)),
+            ("  0  1  2  3\n  0  0  3  3", "    0  1  2  3\nu   0  1  3  3\nd   0  0  3  3"))
+
+    def test_texts(self):
+        self.assertEqual(
+            roundings_text(3, (UpRounding(Ruler(3, 1, 3)), DownRounding(Ruler(3, 0)))), "row 3\nu 1 3\nd 0")
+
+    def test_console(self):
+        console = Console()
+        self.assertEqual(
+            (console.run("new 3"), console.run("up 0 1 3"), console.run("down 0 3"), console.run("at 2"),
+             console.run("needs")),
+            ("ok", "ok", "ok", "3", "1 1"))

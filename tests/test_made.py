@@ -1,26 +1,14 @@
 """The functions made and word_of."""
 
 import itertools
-import random
 
 from markrounds.errors import InvalidNumber, OtherRow
 from markrounds.maps import RowMap
 from markrounds.roundings import DownRounding, UpRounding, made, word_of
 from markrounds.rulers import Ruler
-from values import QuickCase, all_down_roundings, all_up_roundings, wrong_integers
+from values import QuickCase, all_down_roundings, all_up_roundings, drawn_roundings, wrong_integers
 
 UP, DOWN = UpRounding(Ruler(3, 0, 1, 3)), DownRounding(Ruler(3, 0, 3))
-
-
-def drawn_roundings(last, many, seed):
-    draw = random.Random(seed)
-    found = []
-    for _ in range(many):
-        # Most places are marks, so that the maps do not end as constants soon.
-        marks = draw.sample(range(last + 1), draw.randint(last // 2, last))
-        up = draw.random() < 0.5
-        found.append(UpRounding(Ruler(last, last, *marks)) if up else DownRounding(Ruler(last, 0, *marks)))
-    return found
 
 
 class MadeTest(QuickCase):

@@ -176,3 +176,15 @@ def some_row_maps(last, many, seed):
     steps = [RowMap(*sorted(draw.choices(range(last // 2, last + 1), k=last + 1))) for _ in range(many // 4)]
     shifts = [RowMap.shift(last, by) for by in range(-last, last + 1)]
     return drawn + steps + [-f for f in steps] + shifts
+
+
+def drawn_roundings(last, many, seed):
+    """Drawn roundings of both kinds."""
+    draw = random.Random(seed)
+    found = []
+    for _ in range(many):
+        # Most places are marks, so that the maps do not end as constants soon.
+        marks = draw.sample(range(last + 1), draw.randint(last // 2, last))
+        up = draw.random() < 0.5
+        found.append(UpRounding(Ruler(last, last, *marks)) if up else DownRounding(Ruler(last, 0, *marks)))
+    return found
