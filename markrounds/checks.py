@@ -2,6 +2,9 @@
 
 from markrounds.errors import OtherRow
 
+# Read much faster than the class value Ruler.MAX_LAST, which it is equal to.
+GREATEST_LAST = 20
+
 
 def is_integer(value):
     """Tell whether the value is an integer."""

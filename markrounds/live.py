@@ -2,7 +2,7 @@
 
 from markrounds.bridges import check_not_lost, needed_between
 from markrounds.errors import InvalidNumber, LimitExceeded, NothingToUndo
-from markrounds.maps import RowMap, value_at
+from markrounds.maps import value_at, with_images
 from markrounds.roundings import check_roundings, word_of
 from markrounds.rulers import is_last
 
@@ -22,7 +22,7 @@ class LiveRow:
     @property
     def state(self):
         """The map that the roundings make."""
-        return RowMap.of(self._rows[-1])
+        return with_images(self._rows[-1])
 
     @property
     def log(self):
@@ -51,7 +51,7 @@ class LiveRow:
     def would(self, *roundings):
         """Return the map that the row would have after these roundings."""
         rows = _rows_from(self._rows[-1], roundings)
-        return RowMap.of(rows[-1])
+        return with_images(rows[-1])
 
     def undo(self):
         """Undo the latest rounding."""
@@ -60,7 +60,7 @@ class LiveRow:
     def states(self):
         """Yield the maps after 0, 1, 2, ... of the roundings."""
         for places in list(self._rows):
-            yield RowMap.of(places)
+            yield with_images(places)
 
     def copy(self):
         """Return an equal live row, which goes its own way from now on."""
@@ -80,7 +80,7 @@ class GoalRow(LiveRow):
     @property
     def state(self):
         """The map that the roundings make."""
-        return RowMap.of(self._rows[-1])
+        return with_images(self._rows[-1])
 
     @property
     def log(self):
@@ -115,13 +115,13 @@ class GoalRow(LiveRow):
         """Do all roundings, or none if there is an error."""
         rows = _rows_from(self._rows[-1], roundings)
         # A goal that is lost stays lost, so the last row tells for all.
-        check_not_lost(RowMap.of(rows[-1]), self._goal)
+        check_not_lost(with_images(rows[-1]), self._goal)
         _go_on(self, roundings, rows)
 
     def would(self, *roundings):
         """Return the map that the row would have after these roundings."""
         rows = _rows_from(self._rows[-1], roundings)
-        return RowMap.of(rows[-1])
+        return with_images(rows[-1])
 
     def undo(self):
         """Undo the latest rounding."""

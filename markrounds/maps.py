@@ -1,19 +1,23 @@
 """Maps of a row that keep the order of its places."""
 
-from markrounds.checks import check_same_row, held_within, is_integer, is_within
+from markrounds.checks import GREATEST_LAST, check_same_row, held_within, is_integer, is_within
 from markrounds.errors import InvalidMap, InvalidNumber, InvalidPlace
-from markrounds.rulers import Ruler, is_last
+from markrounds.rulers import is_last
 
 
 class RowMap:
     """A map that sends every place of a row to a place. It never changes."""
 
     def __init__(self, *values):
-        if not is_within(len(values), 2, Ruler.MAX_LAST + 1):
+        many = len(values)
+        if many < 2 or many > GREATEST_LAST + 1:
             raise InvalidMap(None)
-        spot = _wrong_value(values)
-        if spot is not None:
-            raise InvalidMap(spot)
+        before = 0
+        for value in values:
+            # As is_within, but without a call for each value.
+            if type(value) is not int or value < before or value >= many:
+                raise InvalidMap(_wrong_value(values))
+            before = value
         self._images = values
 
     @classmethod
@@ -85,8 +89,11 @@ class RowMap:
         values = (*self._images, *moved)
         return RowMap(*values)
 
+    # As value_at, but without a call: all places of many maps are asked.
     def __call__(self, place):
-        return value_at(self._images, place)
+        if type(place) is int and 0 <= place < len(self._images):
+            return self._images[place]
+        raise InvalidPlace(place)
 
     def __getitem__(self, place):
         return value_at(self._images, place)
@@ -108,23 +115,21 @@ class RowMap:
         return isinstance(other, RowMap) and self._images == other._images
 
     def __neg__(self):
-        values = [self.last - value for value in self._images[::-1]]
-        return RowMap(*values)
+        last = self.last
+        return with_images(tuple([last - value for value in self._images[::-1]]))
 
     def __add__(self, other):
         _check_pair(self, other)
-        values = [other._images[value] for value in self._images]
-        return RowMap(*values)
+        images = other._images
+        return with_images(tuple([images[value] for value in self._images]))
 
     def __and__(self, other):
         _check_pair(self, other)
-        values = [x if x <= y else y for x, y in zip(self._images, other._images)]
-        return RowMap(*values)
+        return with_images(tuple([x if x <= y else y for x, y in zip(self._images, other._images)]))
 
     def __or__(self, other):
         _check_pair(self, other)
-        values = [y if x <= y else x for x, y in zip(self._images, other._images)]
-        return RowMap(*values)
+        return with_images(tuple([y if x <= y else x for x, y in zip(self._images, other._images)]))
 
     def __le__(self, other):
         _check_map(other)
@@ -150,20 +155,28 @@ def _check_last(last):
 
 
 def _wrong_value(values):
-    """Return the position of the first value that makes no map, or None."""
+    """Return the position of the first value that makes no map."""
     before = 0
-    for spot, value in enumerate(values):
-        if not is_within(value, before, len(values) - 1):
-            return spot
-        before = value
-    return None
+    spot = 0
+    while is_within(values[spot], before, len(values) - 1):
+        before = values[spot]
+        spot += 1
+    return spot
+
+
+def with_images(images):
+    """Return the map with this tuple of values, without a check of each."""
+    f = RowMap(0, 0)
+    f._images = images
+    return f
 
 
 def value_at(images, place):
     """Return the value of a place; raise InvalidPlace for any other value."""
-    if not is_within(place, 0, len(images) - 1):
-        raise InvalidPlace(place)
-    return images[place]
+    # As is_within, but without a call.
+    if type(place) is int and 0 <= place < len(images):
+        return images[place]
+    raise InvalidPlace(place)
 
 
 def _classes(images):

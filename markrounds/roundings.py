@@ -1,7 +1,7 @@
 """Roundings: every place of a row moves up, or down, to the next mark."""
 
-from markrounds.errors import InvalidNumber, MissingMark, OtherRow
-from markrounds.maps import RowMap, value_at
+from markrounds.errors import InvalidNumber, InvalidPlace, MissingMark, OtherRow
+from markrounds.maps import with_images
 from markrounds.rulers import is_last
 
 
@@ -38,10 +38,11 @@ class UpRounding(Rounding):
     LETTER = "u"
 
     def __init__(self, ruler):
-        if ruler.last not in ruler:
+        marks = ruler.marks
+        if marks[-1] != ruler.last:
             raise MissingMark(ruler.last)
         self._ruler = ruler
-        self._images = _images_up(ruler.marks)
+        self._images = _images_up(marks)
 
     @property
     def ruler(self):
@@ -50,10 +51,13 @@ class UpRounding(Rounding):
 
     def as_map(self):
         """Return the rounding as a map."""
-        return RowMap(*self._images)
+        return with_images(self._images)
 
+    # As value_at, but without a call: all places of many roundings are asked.
     def __call__(self, place):
-        return value_at(self._images, place)
+        if type(place) is int and 0 <= place < len(self._images):
+            return self._images[place]
+        raise InvalidPlace(place)
 
     def __eq__(self, other):
         return type(self) is type(other) and self._ruler == other._ruler
@@ -71,10 +75,11 @@ class DownRounding(Rounding):
     LETTER = "d"
 
     def __init__(self, ruler):
-        if 0 not in ruler:
+        marks = ruler.marks
+        if marks[0] != 0:
             raise MissingMark(0)
         self._ruler = ruler
-        self._images = _images_down(ruler.marks, ruler.last)
+        self._images = _images_down(marks, ruler.last)
 
     @property
     def ruler(self):
@@ -83,10 +88,13 @@ class DownRounding(Rounding):
 
     def as_map(self):
         """Return the rounding as a map."""
-        return RowMap(*self._images)
+        return with_images(self._images)
 
+    # As value_at, but without a call: all places of many roundings are asked.
     def __call__(self, place):
-        return value_at(self._images, place)
+        if type(place) is int and 0 <= place < len(self._images):
+            return self._images[place]
+        raise InvalidPlace(place)
 
     def __eq__(self, other):
         return type(self) is type(other) and self._ruler == other._ruler
@@ -105,7 +113,7 @@ def made(last, *roundings):
     for rounding in roundings:
         images = rounding._images
         values = [images[value] for value in values]
-    return RowMap(*values)
+    return with_images(tuple(values))
 
 
 def word_of(roundings):
@@ -123,25 +131,33 @@ def check_roundings(last, roundings):
 
 
 def _images_up(marks):
+    """Return the next mark from each place up; the last mark is the last place."""
     images = []
+    place = 0
     for mark in marks:
-        images.extend([mark] * (mark + 1 - len(images)))
-    return images
+        while place <= mark:
+            images.append(mark)
+            place += 1
+    return tuple(images)
 
 
 def _images_down(marks, last):
+    """Return the next mark from each place down; the first mark is 0."""
     images = []
-    ends = marks[1:] + (last + 1,)
-    for mark, end in zip(marks, ends):
-        images.extend([mark] * (end - mark))
-    return images
+    place, before = 0, 0
+    for mark in (*marks, last + 1):
+        while place < mark:
+            images.append(before)
+            place += 1
+        before = mark
+    return tuple(images)
 
 
 def _sum_of(first, second):
     # Raised here, not left to Python: the value could answer for itself then.
     if not isinstance(second, Rounding):
         raise TypeError("the operator is described for two roundings only")
-    if first.ruler.last != second.ruler.last:
+    if len(first._images) != len(second._images):
         raise OtherRow(second)
-    values = [second._images[value] for value in first._images]
-    return RowMap(*values)
+    images = second._images
+    return with_images(tuple([images[value] for value in first._images]))

@@ -1,7 +1,12 @@
 """Rulers: nonempty sets of marks on the places of a row."""
 
-from markrounds.checks import check_same_row, is_within
+from markrounds.checks import GREATEST_LAST, check_same_row, is_within
 from markrounds.errors import EmptyRuler, InvalidNumber, InvalidRuler
+
+# The bit of each place that a row may have.
+BITS = (
+    1, 2, 4, 8, 16, 32, 64, 128, 256, 512, 1024, 2048, 4096, 8192, 16384, 32768, 65536, 131072, 262144, 524288, 1048576,
+)
 
 
 class Ruler:
@@ -9,12 +14,17 @@ class Ruler:
 
     MAX_LAST = 20
 
-    # The marks are also kept as the bits of an integer, bit m for the mark m:
-    # the operators take far less time on one integer than on all the marks.
+    # The marks are kept as the bits of an integer: the operators take far less
+    # time on one integer than on all the marks. The checks are those of is_last
+    # and is_within, but without calls, which would take more time than the rest.
     def __init__(self, last, *marks):
-        if not is_last(last):
+        if type(last) is not int or last < 1 or last > GREATEST_LAST:
             raise InvalidRuler("last")
-        bits = _bits_of(last, marks)
+        bits = 0
+        for mark in marks:
+            if type(mark) is not int or mark < 0 or mark > last:
+                raise InvalidRuler("marks", _wrong_mark(last, marks))
+            bits = bits | BITS[mark]
         if bits == 0:
             raise EmptyRuler()
         self._last = last
@@ -63,7 +73,7 @@ class Ruler:
 
     def __contains__(self, mark):
         # As is_within, but without a call, which takes more time than the rest.
-        return type(mark) is int and 0 <= mark <= self._last and (self._bits & (1 << mark)) != 0
+        return type(mark) is int and 0 <= mark <= self._last and (self._bits & BITS[mark]) != 0
 
     def __getitem__(self, n):
         if not is_within(n, 0, len(self.marks) - 1):
@@ -75,22 +85,27 @@ class Ruler:
         raise TypeError("a ruler is not iterated over")
 
     def __neg__(self):
-        marks = [self._last - mark for mark in self.marks]
-        return Ruler(self._last, *marks)
+        bits = 0
+        for mark in self.marks:
+            bits = bits | BITS[self._last - mark]
+        return _with_bits(self._last, bits)
 
+    # Rulers are put together one mark after the other, so that r | s is what is
+    # called most: it looks for itself whether there is an error, and a mark is
+    # always left.
     def __or__(self, other):
-        _check_ruler(other)
-        check_same_row(self, other)
-        return _with_bits(self._last, self._bits | other._bits)
+        if not isinstance(other, Ruler) or self._last != other._last:
+            _check_pair(self, other)
+        both = Ruler(self._last, 0)
+        both._bits = self._bits | other._bits
+        return both
 
     def __and__(self, other):
-        _check_ruler(other)
-        check_same_row(self, other)
+        _check_pair(self, other)
         return _with_bits(self._last, self._bits & other._bits)
 
     def __sub__(self, other):
-        _check_ruler(other)
-        check_same_row(self, other)
+        _check_pair(self, other)
         return _with_bits(self._last, self._bits & ~other._bits)
 
     def __le__(self, other):
@@ -116,19 +131,16 @@ def is_last(value):
     return is_within(value, 1, Ruler.MAX_LAST)
 
 
-def _bits_of(last, marks):
-    """Return the bits of the marks; raise InvalidRuler for the first that is no place."""
-    bits = 0
-    for spot, mark in enumerate(marks):
-        # As is_within, but without a call for each mark.
-        if type(mark) is not int or mark < 0 or mark > last:
-            raise InvalidRuler("marks", spot)
-        bits = bits | (1 << mark)
-    return bits
+def _wrong_mark(last, marks):
+    """Return the position of the first mark that is not a place."""
+    spot = 0
+    while is_within(marks[spot], 0, last):
+        spot += 1
+    return spot
 
 
 def _marks_of(bits, last):
-    return tuple([place for place in range(last + 1) if bits & (1 << place)])
+    return tuple([place for place, bit in enumerate(BITS[:last + 1]) if bits & bit])
 
 
 def _with_bits(last, bits):
@@ -144,6 +156,11 @@ def _check_ruler(value):
     # Raised here, not left to Python: the value could answer for itself then.
     if not isinstance(value, Ruler):
         raise TypeError("the operator is described for two rulers only")
+
+
+def _check_pair(one, other):
+    _check_ruler(other)
+    check_same_row(one, other)
 
 
 def _is_part(part, whole):
