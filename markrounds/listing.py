@@ -19,8 +19,8 @@ def count_maps(last):
 
 def map_by_rank(last, rank):
     """Return the map with this number."""
-    _check_last(last)
-    if not is_within(rank, 0, count_maps(last) - 1):
+    many = count_maps(last)
+    if not is_within(rank, 0, many - 1):
         raise InvalidRank(rank)
     values = _values_at(last, rank)
     return RowMap(*values)
@@ -39,7 +39,6 @@ def rank_of_map(f):
 
 def all_maps(last, start=0):
     """Yield the maps from the one with the number start on, ascending."""
-    _check_last(last)
     many = count_maps(last)
     if not is_within(start, 0, many):
         raise InvalidRank(start)

@@ -2,6 +2,7 @@
 
 import inspect
 import itertools
+import operator
 import random
 
 from markrounds.bridges import bridge, needed_between
@@ -268,10 +269,11 @@ class CopyTest(LiveCase):
         self.caught(Lost, other.do, UpRounding(Ruler(3, 3)))
 
     def test_a_copy_of_a_copy_of_a_new_row(self):
-        for row in new_rows(20):
-            other = row.copy().copy()
-            self.assertTrue(other == row and type(other) is type(row))
-            self.check_row(other, 20, [])
+        for last in range(1, 21):
+            for row in new_rows(last):
+                other = row.copy().copy()
+                self.assertTrue(other == row and type(other) is type(row))
+                self.check_row(other, last, [])
 
 
 class EqualityTest(LiveCase):
@@ -320,6 +322,15 @@ class EqualityTest(LiveCase):
                 self.assertIs(row != value, True)
             for value in (None, 0, "", (), [], row.state, Ruler(2, 0)):
                 self.assertIs(value == row, False)
+
+    def test_operators_that_are_not_described(self):
+        for row in new_rows(2):
+            for call in (operator.add, operator.sub, operator.and_, operator.or_, operator.lt, operator.le, operator.gt,
+                         operator.ge, operator.contains, operator.getitem):
+                self.caught(TypeError, call, row, row.copy())
+                self.caught(TypeError, call, row, 0)
+            for call in (operator.neg, operator.pos, iter, list, hash):
+                self.caught(TypeError, call, row)
 
 
 class GoalTest(LiveCase):
